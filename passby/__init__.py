@@ -1,0 +1,1 @@
+"""Passby: diaries of deeds, told alike or apart."""
