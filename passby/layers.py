@@ -15,12 +15,15 @@ def heights(diary):
     return told
 
 
-def layers(diary):
-    told = heights(diary)
+def laid(diary, told):
     rows = [[] for height in range(max(told, default=-1) + 1)]
     for deed, height in zip(diary, told):
         rows[height].append(deed)
     return [sorted(row) for row in rows]
+
+
+def layers(diary):
+    return laid(diary, heights(diary))
 
 
 def place_below(diary, told, place):

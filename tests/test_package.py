@@ -24,7 +24,7 @@ def trees():
 class Package(unittest.TestCase):
     def test_the_modules_are_there_and_nothing_but_modules(self):
         names = [path.name for path in files()]
-        for name in ("__init__.py", "errors.py", "deeds.py", "layers.py"):
+        for name in ("__init__.py", "errors.py", "deeds.py", "layers.py", "hall.py", "ways.py", "boxes.py"):
             self.assertIn(name, names)
         self.assertTrue(all(name.endswith(".py") for name in names))
 
